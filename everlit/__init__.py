@@ -1,0 +1,1 @@
+"""Everlit: moving signals in a network of light without darkening any."""

@@ -1,0 +1,70 @@
+"""The names, arguments and places of what the interface lists, as far as it has landed."""
+
+import importlib
+import inspect
+import unittest
+
+FUNCTIONS = {
+    "everlit.kinds": {
+        "is_name": "value", "is_item": "value", "is_light": "value", "is_twin": "value", "is_reserve": "value",
+        "signal_of": "item", "twin_of": "name", "reserve_of": "name",
+    },
+    "everlit.routes": {
+        "is_route": "net, value", "ends_of": "net, route", "stations_on": "net, route", "length_of": "net, route",
+        "ducts_of": "net, route", "factor_of": "net, route", "width_of": "net, route, rate",
+        "routes_between": "net, one, other", "common": "*routes",
+    },
+    "everlit.layouts": {"layout_fault": "net, band, rates, spots"},
+    "everlit.formatting": {"net_text": "net", "layout_text": "layout"},
+}
+CLASSES = {
+    ("everlit.nets", "Net"): {
+        "__init__": "self, *fibres, reach=()", "__len__": "self", "__getitem__": None, "__contains__": None,
+        "duct_of": "self, index", "fibres_in": "self, duct", "__eq__": None, "__str__": "self", "__repr__": "self",
+        "read": "text",
+    },
+    ("everlit.layouts", "Layout"): {
+        "__init__": "self, net, band, rates, spots", "__getitem__": None, "width": "self, item",
+        "calls": "self, name", "__contains__": None, "__len__": "self", "placed": "self, places",
+        "with_item": "self, item, route, place, *, rate=None", "without": "self, *items", "in_band": "self, band",
+        "mirrored": "self", "__eq__": None, "is_under": "self, other", "__str__": "self", "__repr__": "self",
+        "read": "text",
+    },
+}
+PROPERTIES = {
+    ("everlit.nets", "Net"): ("fibres", "stations", "ducts", "reach"),
+    ("everlit.layouts", "Layout"): ("net", "band", "rates", "spots", "signals", "doubled"),
+}
+
+
+class InterfaceTest(unittest.TestCase):
+    def test_functions(self):
+        for module, table in FUNCTIONS.items():
+            for name, told in table.items():
+                with self.subTest(name=name):
+                    found = getattr(importlib.import_module(module), name)
+                    self.assertEqual(found.__module__, module)
+                    self.assertEqual(str(inspect.signature(found)), f"({told})")
+
+    def test_methods_are_defined_in_the_class_itself(self):
+        for (module, name), table in CLASSES.items():
+            found = getattr(importlib.import_module(module), name)
+            self.assertEqual(found.__module__, module)
+            for method, told in table.items():
+                with self.subTest(method=method):
+                    self.assertIn(method, vars(found))
+                    if told is not None:
+                        self.assertEqual(str(inspect.signature(getattr(found, method))), f"({told})")
+
+    def test_class_methods(self):
+        for module, name in CLASSES:
+            found = getattr(importlib.import_module(module), name)
+            self.assertIsInstance(vars(found)["read"], classmethod)
+
+    def test_properties_cannot_be_assigned(self):
+        for (module, name), table in PROPERTIES.items():
+            found = getattr(importlib.import_module(module), name)
+            for told in table:
+                with self.subTest(told=told):
+                    self.assertIsInstance(vars(found)[told], property)
+                    self.assertIsNone(vars(found)[told].fset)
