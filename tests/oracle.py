@@ -98,3 +98,38 @@ def survives_cut(net, rates, spots, duct):
     stay = [item for item in spots if lit(item) and duct not in ducts_of(net, spots[item][0])]
     told = [slot for item in stay + reserves for slot in held(net, rates, spots, item)]
     return len(told) == len(set(told))
+
+
+def closure(pairs):
+    """All pairs of items of which one is below the other one."""
+    found = set(pairs)
+    while True:
+        more = {(a, d) for a, b in found for c, d in found if b == c} - found
+        if not more:
+            return found
+        found |= more
+
+
+def chains(members, pairs):
+    """All chains of an order without a ring, as tuples of items."""
+    found = [(item,) for item in members]
+    for chain in found:
+        found += [chain + (upper,) for lower, upper in sorted(set(pairs)) if lower == chain[-1]]
+    return found
+
+
+def weight(widths, chain):
+    return sum(widths[item] for item in chain)
+
+
+def is_ring(pairs, items):
+    """Whether a tuple of items is a ring."""
+    if len(items) < 2 or len(set(items)) < len(items):
+        return False
+    return all((items[at - 1], items[at]) in pairs for at in range(len(items)))
+
+
+def order_pairs(net, spots):
+    """The pairs of the order of a layout [10], ascending."""
+    found = [(one, other) for one in spots for other in spots if clash(net, spots, one, other)]
+    return sorted((one, other) for one, other in found if spots[one][1] < spots[other][1])

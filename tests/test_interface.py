@@ -15,6 +15,14 @@ FUNCTIONS = {
         "routes_between": "net, one, other", "common": "*routes",
     },
     "everlit.layouts": {"layout_fault": "net, band, rates, spots"},
+    "everlit.clashes": {"clash": "layout, one, other", "clashing": "layout", "occupants": "layout, index"},
+    "everlit.orders": {"order_of": "layout"},
+    "everlit.chains": {
+        "lows": "layout", "highs": "layout", "settled": "layout", "lifted": "layout", "heaviest_chain": "layout",
+        "least_band": "layout", "spread": "one, other",
+    },
+    "everlit.chaincheck": {"chain_weight": "order, value", "shows_ring": "order, value"},
+    "everlit.turned": {"need_alike": "first, goal", "turned": "first, goal"},
     "everlit.formatting": {"net_text": "net", "layout_text": "layout"},
 }
 CLASSES = {
@@ -30,10 +38,18 @@ CLASSES = {
         "mirrored": "self", "__eq__": None, "is_under": "self, other", "__str__": "self", "__repr__": "self",
         "read": "text",
     },
+    ("everlit.orders", "Order"): {
+        "__init__": "self, widths, pairs=()", "low": "self, item", "high": "self, item, band",
+        "below": "self, item", "above": "self, item", "fits": "self, band", "__or__": None,
+        "without": "self, *items", "with_item": "self, item, width, *, below=(), above=()", "__eq__": None,
+        "is_part_of": "self, other", "__contains__": None, "__len__": "self", "__repr__": "self",
+    },
 }
+CLASS_METHODS = {("everlit.nets", "Net"): "read", ("everlit.layouts", "Layout"): "read"}
 PROPERTIES = {
     ("everlit.nets", "Net"): ("fibres", "stations", "ducts", "reach"),
     ("everlit.layouts", "Layout"): ("net", "band", "rates", "spots", "signals", "doubled"),
+    ("everlit.orders", "Order"): ("widths", "members", "pairs", "circle", "weight", "chain"),
 }
 
 
@@ -57,9 +73,9 @@ class InterfaceTest(unittest.TestCase):
                         self.assertEqual(str(inspect.signature(getattr(found, method))), f"({told})")
 
     def test_class_methods(self):
-        for module, name in CLASSES:
+        for (module, name), told in CLASS_METHODS.items():
             found = getattr(importlib.import_module(module), name)
-            self.assertIsInstance(vars(found)["read"], classmethod)
+            self.assertIsInstance(vars(found)[told], classmethod)
 
     def test_properties_cannot_be_assigned(self):
         for (module, name), table in PROPERTIES.items():
