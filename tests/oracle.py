@@ -133,3 +133,22 @@ def order_pairs(net, spots):
     """The pairs of the order of a layout [10], ascending."""
     found = [(one, other) for one in spots for other in spots if clash(net, spots, one, other)]
     return sorted((one, other) for one, other in found if spots[one][1] < spots[other][1])
+
+
+def wish_word(net, rates, spots, wish):
+    """The first word that is wrong about a tuple of an item, a route and a rate as a wish, or None."""
+    item, route, rate = wish
+    name, light = name_of(item), lit(item) and not item.endswith("+")
+    if (name in rates) == light or (item.endswith("+") and any(other.endswith("+") for other in spots)):
+        return "wish"
+    if light and len(rates) == 12:
+        return "many"
+    if light and (type(rate) is not int or not 1 <= rate <= 16) or not light and rate is not None:
+        return "rate"
+    if not is_route(net, route) or not light and ends_of(net, route) != ends_of(net, spots[name][0]):
+        return "route"
+    if factor(net, route) is None:
+        return "far"
+    if not lit(item) and set(ducts_of(net, route)) & set(calls(net, spots, name)):
+        return "calls"
+    return None

@@ -23,6 +23,21 @@ FUNCTIONS = {
     },
     "everlit.chaincheck": {"chain_weight": "order, value", "shows_ring": "order, value"},
     "everlit.turned": {"need_alike": "first, goal", "turned": "first, goal"},
+    "everlit.slides": {"distance": "first, goal", "slides": "first, goal"},
+    "everlit.ticks": {
+        "after_tick": "layout, *steps", "envelope": "layout, ticks", "fewest_ticks": "first, goal",
+        "schedule": "first, goal", "wait_chain": "first, goal",
+    },
+    "everlit.tickcheck": {"least_ticks": "first, goal, value"},
+    "everlit.rooms": {
+        "bars": "layout, wish", "room": "layout, wish", "room_at": "layout, *placed",
+        "room_pair": "layout, wish, route",
+    },
+    "everlit.roomticks": {"soonest": "layout, wish", "narrowed": "layout, band"},
+    "everlit.roomcheck": {
+        "shows_barred": "layout, wish, value", "shows_throws": "layout, placed, value",
+        "shows_not_sooner": "layout, wish, ticks, value", "shows_heavy": "layout, band, value",
+    },
     "everlit.formatting": {"net_text": "net", "layout_text": "layout"},
 }
 CLASSES = {

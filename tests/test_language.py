@@ -175,6 +175,7 @@ class LanguageTest(unittest.TestCase):
         known = {part.arg for part in ast.walk(function) if isinstance(part, ast.arg)}
         used = [part for part in ast.walk(function) if isinstance(part, ast.Name)]
         known |= {part.id for part in used if isinstance(part.ctx, ast.Store)}
+        known |= {part.name for part in ast.walk(function) if isinstance(part, ast.ExceptHandler)}
         for part in used:
             self.holds(part.id in known | top | BUILTINS, "L8", path, part)
             self.holds(part.id != "_" or isinstance(part.ctx, ast.Store), "L12", path, part)
@@ -221,11 +222,13 @@ class LanguageTest(unittest.TestCase):
                 self.holds(not node.keywords and node.func.attr != "sort", "L25", path, node)
 
     def test_what_is_iterated_at_once(self):
+        generators = {node.name for _, node in nodes(ast.FunctionDef)
+                      if any(isinstance(part, (ast.Yield, ast.YieldFrom)) for part in ast.walk(node))}
+        functions = [node.name for _, node in nodes(ast.FunctionDef)]
+        self.assertTrue(all(functions.count(name) == 1 for name in generators), "L23")
+        views = {"zip", "enumerate", "reversed", "range", "items", "values", "keys"} | generators
         for path, tree in TREES.items():
             above = parents(tree)
-            generators = {node.name for node in ast.walk(tree) if isinstance(node, ast.FunctionDef)
-                          and any(isinstance(part, (ast.Yield, ast.YieldFrom)) for part in ast.walk(node))}
-            views = {"zip", "enumerate", "reversed", "range", "items", "values", "keys"} | generators
             for node in ast.walk(tree):
                 if isinstance(node, ast.Call) and called(node) in views:
                     parent = above[node]
