@@ -38,6 +38,23 @@ FUNCTIONS = {
         "shows_barred": "layout, wish, value", "shows_throws": "layout, placed, value",
         "shows_not_sooner": "layout, wish, ticks, value", "shows_heavy": "layout, band, value",
     },
+    "everlit.moves": {
+        "is_move": "value", "barrier": "layout, move", "done": "layout, move", "undone": "layout, move",
+        "free_places": "layout, word, name, route, *, rate=None",
+    },
+    "everlit.plans": {
+        "play": "layout, *moves", "stages": "layout, *moves", "plan_fault": "first, goal, value",
+        "back": "layout, *moves", "tally": "moves", "hops_in": "moves", "hop": "layout, name, route, place",
+        "always_lit": "layout, *moves",
+    },
+    "everlit.cuts": {
+        "struck": "layout, duct", "cut": "layout, duct", "cut_table": "layout", "worst_cuts": "layout",
+        "after_cut": "layout, duct",
+    },
+    "everlit.reserves": {
+        "guarded": "layout", "bare": "layout", "shared": "layout", "guard_routes": "layout, name",
+        "guard": "layout, name", "shows_unguardable": "layout, name, value",
+    },
     "everlit.formatting": {"net_text": "net", "layout_text": "layout"},
 }
 CLASSES = {
@@ -59,8 +76,15 @@ CLASSES = {
         "without": "self, *items", "with_item": "self, item, width, *, below=(), above=()", "__eq__": None,
         "is_part_of": "self, other", "__contains__": None, "__len__": "self", "__repr__": "self",
     },
+    ("everlit.states", "Web"): {
+        "__init__": "self, net, band, rates, routes, *, still=()",
+        "of": "first, goal=None, *, routes=None, still=()", "state_of": "self, layout", "layout_at": "self, state",
+        "order_at": "self, state", "__contains__": None, "steps": "self, state",
+    },
 }
-CLASS_METHODS = {("everlit.nets", "Net"): "read", ("everlit.layouts", "Layout"): "read"}
+CLASS_METHODS = {
+    ("everlit.nets", "Net"): "read", ("everlit.layouts", "Layout"): "read", ("everlit.states", "Web"): "of",
+}
 PROPERTIES = {
     ("everlit.nets", "Net"): ("fibres", "stations", "ducts", "reach"),
     ("everlit.layouts", "Layout"): ("net", "band", "rates", "spots", "signals", "doubled"),

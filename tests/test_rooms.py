@@ -12,13 +12,11 @@ from everlit.roomcheck import shows_barred, shows_throws
 from everlit.rooms import bars, room, room_at, room_pair
 from everlit.roomticks import soonest
 from everlit.routes import routes_between
-from everlit.slides import distance
-from everlit.turned import turned
 from tests import oracle
 from tests.samples import STRANGE, crowd, generator, ladder, line
 from tests.test_chains import places, stack
 from tests.test_turned import small
-from tests.trying import every_route, random_wish, shaken, spots_at, tried, with_wish
+from tests.trying import every_route, random_wish, spots_at, tried, with_wish
 
 
 def crowded():
