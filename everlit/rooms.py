@@ -97,7 +97,7 @@ def answer_at(layout, order, walls, placed):
             return ("over", index)
     for index, span in enumerate(spans):
         for other in walls[index][2]:
-            if other > index and share_slot(span, spans[other]):
+            if share_slot(span, spans[other]):
                 return ("overlap", index, other)
     stops = [(place, walls[index][0], walls[index][1]) for index, (_, place) in enumerate(placed)]
     found = bounds_over(layout, order, {item: 0 for item in order.members}, stops)

@@ -157,6 +157,14 @@ class BarrierTest(unittest.TestCase):
         eleven = layout.without("l")
         self.assertIsNone(barrier(eleven, ("begin", "new", 1, (0,), 11)))
         self.barred("overlap", eleven, ("begin", "new", 1, (0,), 10))
+        # The other moves are not barred by twelve signals.
+        bare = layout.without("a*")
+        for move in (("light", "a", (2,), 0), ("guard", "a", (2,), 0), ("move", "b", (2,), 0), ("drop", "b"),
+                     ("end", "l")):
+            self.assertIsNone(barrier(bare, move))
+        doubled = done(bare, ("light", "a", (2,), 0))
+        for move in (("out", "a"), ("quit", "a"), ("slide", "a+", 1)):
+            self.assertIsNone(barrier(doubled, move))
 
     def test_words_of_what_would_result(self):
         layout = crowd().without("one+", "one*")

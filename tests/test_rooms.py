@@ -441,6 +441,12 @@ class RoomAtTest(unittest.TestCase):
         self.wrong("rate", layout, (twin, 0), (("c", (0,), 0), 0), (reserve, 0))
         self.assertEqual(room_at(layout, (twin, 0), (("a*", (1,), None), 0))[0], "room")
 
+    def test_a_placed_wish_that_is_none(self):
+        wish = ("n", (2,), 1)
+        for placed in (wish, (wish,), (wish, True), (wish, "0"), (wish, 0, 0), (wish, None), None):
+            self.wrong("wish", small(), placed)
+            self.wrong("wish", small(), (wish, 0), placed)
+
     def test_twelve_signals(self):
         layout = crowded().without("k", "l")
         wishes = [((name, (2,), 1), at) for at, name in enumerate("klm")]

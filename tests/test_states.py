@@ -205,6 +205,21 @@ class StateTest(unittest.TestCase):
                          (rows, ((value, "b"),)), (rows, (("a", value),))):
                 self.assertIs(told in web, told == (rows, pairs))
 
+    def test_items_that_are_not_in_the_web(self):
+        net = Net(*[("a", "b", 1, duct) for duct in "pqrstu"])
+        spots = {"a": ((0,), 0), "a*": ((1,), 0), "b": ((2,), 0), "b*": ((3,), 0), "c": ((4,), 0)}
+        layout = Layout(net, 2, {"a": 1, "b": 1, "c": 1}, spots)
+        web = Web.of(layout, routes={name: ((5,),) for name in "abc"})
+        rows = web.state_of(layout)[0]
+        for more, told in (((), True), (("a+",), True), (("b+",), True), (("c+",), False), (("a+", "b+"), False),
+                           (("a?",), False), (("a**",), False), (("d",), False), (("A+",), False), (("+",), False)):
+            state = (tuple(sorted(rows + tuple((item, (5,)) for item in more))), ())
+            self.assertIs(state in web, told)
+        pairs = (("b", "b+"),)
+        twin = ("b+", (2,))
+        self.assertIs((tuple(sorted(rows + (twin,))), pairs) in web, True)
+        self.assertIs((tuple(sorted(rows + (twin, ("a+", (5,))))), pairs) in web, False)
+
     def test_orders_that_do_not_fit(self):
         layout = stack(1, 1, 1, band=3)
         web = Web.of(layout)

@@ -81,7 +81,7 @@ class AfterTickTest(unittest.TestCase):
             ("A", 1), ("a b", 1), ("", 1), ("a", 10 ** 59), (("a",), 1), "a1", "a", {"a": 1},
         ]
         for step in wrong + [value for value in STRANGE if not isinstance(value, list)]:
-            if step != ("a", 1):
+            if step != ("a", 1) or step[1] is True:
                 self.barred(0, "step", layout, step)
                 self.barred(1, "step", layout, ("b*", 1), step)
         # A list stands for its entries.
