@@ -55,6 +55,18 @@ FUNCTIONS = {
         "guarded": "layout", "bare": "layout", "shared": "layout", "guard_routes": "layout, name",
         "guard": "layout, name", "shows_unguardable": "layout, name, value",
     },
+    "everlit.webs": {
+        "fewest_hops": "first, goal, *, routes=None, still=(), limit=200",
+        "layers": "first, goal, *, routes=None, still=(), limit=200",
+        "sure_hops": "first, goal, *, routes=None, still=(), limit=200",
+    },
+    "everlit.webcheck": {
+        "shows_never": "first, goal, value, *, routes=None, still=()",
+        "shows_fewest": "first, goal, value, *, routes=None, still=()",
+    },
+    "everlit.demands": {"demands": "first, goal", "unmet": "first, goal, counts"},
+    "everlit.counts": {"least_counts": "first, goal", "cases": "first, goal"},
+    "everlit.countcheck": {"shows_counts": "first, goal, total, value"},
     "everlit.formatting": {"net_text": "net", "layout_text": "layout"},
 }
 CLASSES = {
