@@ -1,4 +1,4 @@
-"""The texts of nets and of layouts."""
+"""The texts of nets, layouts, moves and plans."""
 
 from everlit.kinds import reserve_of, twin_of
 
@@ -35,3 +35,21 @@ def spot_text(spot):
     """A route and a place as words of a text."""
     route, place = spot
     return f"{route_text(route)} {place}"
+
+
+def step_text(step):
+    """A step as a word of a text."""
+    return "up" if step == 1 else "down"
+
+
+def move_text(move):
+    """The text of a move."""
+    if move[0] == "slide":
+        return f"slide {move[1]} {step_text(move[2])}"
+    words = [route_text(part) if isinstance(part, tuple) else str(part) for part in move]
+    return " ".join(words)
+
+
+def plan_text(moves):
+    """The text of the moves of a list or tuple."""
+    return "\n".join([move_text(move) for move in moves])

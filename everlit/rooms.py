@@ -40,15 +40,24 @@ def least_free(spans, most):
 
 def room(layout, wish):
     """The least place for the wished item and a layout with it, or rows that bar all places."""
+    word, found, aside = room_aside(layout, wish)
+    if word == "barred":
+        return (word, found)
+    places = {item: aside[item][1] for item in aside.spots}
+    return (word, found, layout_with(layout, places, [(wish, found)]))
+
+
+def room_aside(layout, wish):
+    """Either "room", the least place and the layout of the others aside, or "barred", rows and None."""
     width, others, rivals = walls_for(layout, [wish])[0]
     order = order_of(layout)
     spans = spans_barred(layout, order, (width, others, rivals))
     place = least_free(spans, layout.band - width)
     if place is None:
-        return ("barred", tuple([barring_row(layout, order, item) for _, _, item in spans]))
+        return ("barred", tuple([barring_row(layout, order, item) for _, _, item in spans]), None)
     starts = {item: 0 for item in order.members}
     places = least_over(layout, order, starts, [(place, width, others)])
-    return ("room", place, layout_with(layout, places, [(wish, place)]))
+    return ("room", place, layout.placed(places))
 
 
 def barring_row(layout, order, item):

@@ -1,7 +1,7 @@
 """The lines of texts, read into rows: tuples of the first word and the values behind it."""
 
 from everlit.errors import ParseError
-from everlit.kinds import is_name
+from everlit.kinds import is_item, is_name
 from everlit.limits import MOST_FIBRES, is_within
 
 NET_HEADS = ("fibre", "reach")
@@ -29,6 +29,7 @@ AHEAD = {
 
 MOST_LINES = {"fibre": 16, "reach": 6, "band": 1, "signal": 12}
 EXTRAS = ("twin", "reserve")
+STEPS = {"up": 1, "down": -1}
 
 # No number that a text may hold is longer, and int() refuses numbers that are much longer.
 MOST_DIGITS = 6
@@ -56,7 +57,11 @@ def wrong_word(rows, words, heads):
         return 0
     if len(words) > 1 and not name_fits(rows, head, words[1]):
         return 1
-    forms = FORMS[head]
+    return wrong_behind(FORMS[head], words)
+
+
+def wrong_behind(forms, words):
+    """The index of the first word behind the first one that is wrong, missing or too many, or None."""
     for at, form in enumerate(forms, start=1):
         if at == len(words) or worth_of(form, words[at]) is None:
             return at
@@ -87,15 +92,23 @@ def name_fits(rows, head, name):
 
 def row_of(words):
     """The row of a line that is right."""
-    head = words[0]
-    worths = [worth_of(form, word) for form, word in zip(FORMS[head], words[1:])]
-    return tuple([head] + worths)
+    return row_by(FORMS[words[0]], words)
+
+
+def row_by(forms, words):
+    """The tuple of the first word and of the values that the others, which are right, write."""
+    worths = [worth_of(form, word) for form, word in zip(forms, words[1:])]
+    return tuple([words[0]] + worths)
 
 
 def worth_of(form, word):
     """The value that a word writes, or None if it cannot stand for this form."""
     if form == "name":
         return word if is_name(word) else None
+    if form == "item":
+        return word if is_item(word) else None
+    if form == "step":
+        return STEPS.get(word)
     if form == "route":
         return route_in(word)
     number = number_in(word)

@@ -67,7 +67,12 @@ FUNCTIONS = {
     "everlit.demands": {"demands": "first, goal", "unmet": "first, goal, counts"},
     "everlit.counts": {"least_counts": "first, goal", "cases": "first, goal"},
     "everlit.countcheck": {"shows_counts": "first, goal, total, value"},
-    "everlit.formatting": {"net_text": "net", "layout_text": "layout"},
+    "everlit.wide": {"movers": "first, goal", "wide_band": "first, goal", "wide_plan": "first, goal"},
+    "everlit.formatting": {
+        "net_text": "net", "layout_text": "layout", "move_text": "move", "plan_text": "moves",
+    },
+    "everlit.parsing": {"read_net": "text", "read_layout": "text", "read_move": "text", "read_plan": "text"},
+    "everlit.charts": {"chart": "layout", "ticks_chart": "ticks"},
 }
 CLASSES = {
     ("everlit.nets", "Net"): {
@@ -93,6 +98,14 @@ CLASSES = {
         "of": "first, goal=None, *, routes=None, still=()", "state_of": "self, layout", "layout_at": "self, state",
         "order_at": "self, state", "__contains__": None, "steps": "self, state",
     },
+    ("everlit.plant", "Plant"): {
+        "__init__": "self, layout", "do": "self, *moves", "slide_to": "self, goal", "admit": "self, name, rate, route",
+        "narrow": "self, band", "protect": "self, name", "cut": "self, duct", "change": "self, **settings",
+        "undo": "self, count=1", "trial": "self, deed", "twin": "self", "__eq__": None, "__len__": "self",
+        "__repr__": "self",
+    },
+    ("everlit.plant", "GuardedPlant"): {"do": "self, *moves", "__repr__": "self"},
+    ("everlit.desk", "Desk"): {"__init__": "self, text", "say": "self, row"},
 }
 CLASS_METHODS = {
     ("everlit.nets", "Net"): "read", ("everlit.layouts", "Layout"): "read", ("everlit.states", "Web"): "of",
@@ -101,6 +114,7 @@ PROPERTIES = {
     ("everlit.nets", "Net"): ("fibres", "stations", "ducts", "reach"),
     ("everlit.layouts", "Layout"): ("net", "band", "rates", "spots", "signals", "doubled"),
     ("everlit.orders", "Order"): ("widths", "members", "pairs", "circle", "weight", "chain"),
+    ("everlit.plant", "Plant"): ("layout", "log", "hops"),
 }
 
 
@@ -135,3 +149,12 @@ class InterfaceTest(unittest.TestCase):
                 with self.subTest(told=told):
                     self.assertIsInstance(vars(found)[told], property)
                     self.assertIsNone(vars(found)[told].fset)
+
+    def test_slots_can_be_assigned(self):
+        found = importlib.import_module("everlit.plant").Plant
+        self.assertIsInstance(vars(found)["slots"], property)
+        self.assertIsNotNone(vars(found)["slots"].fset)
+
+    def test_a_guarded_plant_is_a_plant(self):
+        module = importlib.import_module("everlit.plant")
+        self.assertEqual(module.GuardedPlant.__bases__, (module.Plant,))

@@ -22,7 +22,7 @@ METHODS = set(
     "items join keys ljust lower lstrip partition pop remove replace reverse rfind rjust rpartition rsplit rstrip "
     "setdefault split splitlines startswith strip update upper values zfill bit_length add discard".split())
 DUNDERS = set(
-    "__init__ __eq__ __repr__ __str__ __len__ __iter__ __call__ __contains__ __getitem__ __or__ __lt__ __le__ "
+    "__init__ __eq__ __repr__ __str__ __len__ __bool__ __iter__ __call__ __contains__ __getitem__ __or__ __lt__ __le__ "
     "__class__ __name__".split())
 STATEMENTS = (
     ast.Assign, ast.AugAssign, ast.If, ast.While, ast.For, ast.Return, ast.Break, ast.Continue, ast.Pass, ast.Raise,
@@ -54,15 +54,22 @@ def called(node):
     return node.func.attr if isinstance(node.func, ast.Attribute) else ""
 
 
-def is_plain(node):
-    """Whether a value at module level is written out."""
+def is_plain(node, functions=()):
+    """Whether a value at module level is written out, or a table with these functions."""
     if isinstance(node, (ast.List, ast.Tuple)):
-        return all(is_plain(part) for part in node.elts)
+        return all(is_plain(part, functions) for part in node.elts)
     if isinstance(node, ast.Dict):
-        return all(part is not None and is_plain(part) for part in node.keys + node.values)
+        return all(part is not None and is_plain(part, functions) for part in node.keys + node.values)
+    if isinstance(node, ast.Name):
+        return node.id in functions
     if isinstance(node, ast.UnaryOp):
         return isinstance(node.op, ast.USub) and is_plain(node.operand)
     return isinstance(node, ast.Constant)
+
+
+def is_setter(node):
+    """Whether a decorator makes a method the setter of a property."""
+    return isinstance(node, ast.Attribute) and node.attr == "setter"
 
 
 class LanguageTest(unittest.TestCase):
@@ -120,18 +127,20 @@ class LanguageTest(unittest.TestCase):
     def test_module_level(self):
         for path, tree in TREES.items():
             bound = []
+            functions = []
             for at, node in enumerate(tree.body):
                 if isinstance(node, ast.Expr):
                     self.holds(at == 0 and isinstance(node.value, ast.Constant), "L3", path, node)
                 elif isinstance(node, ast.Assign):
                     self.holds(len(node.targets) == 1 and isinstance(node.targets[0], ast.Name), "L3", path, node)
-                    self.holds(is_plain(node.value), "L3", path, node)
+                    self.holds(is_plain(node.value, functions), "L3", path, node)
                     bound.append(node.targets[0].id)
                 elif isinstance(node, ast.ImportFrom):
                     bound += [alias.name for alias in node.names]
                 else:
                     self.holds(isinstance(node, (ast.FunctionDef, ast.ClassDef)), "L3", path, node)
                     bound.append(node.name)
+                    functions += [node.name] if isinstance(node, ast.FunctionDef) else []
             self.assertEqual(len(bound), len(set(bound)), f"L15 {path.name}")
 
     def test_statements(self):
@@ -145,7 +154,7 @@ class LanguageTest(unittest.TestCase):
         for path, node in nodes((ast.FunctionDef, ast.ClassDef)):
             for told in node.decorator_list:
                 plain = isinstance(told, ast.Name) and told.id in ("property", "classmethod", "staticmethod")
-                self.holds(plain or getattr(told, "attr", "") == "setter", "L4", path, node)
+                self.holds(plain or is_setter(told), "L4", path, node)
         for path, node in nodes(ast.arguments):
             for value in node.defaults + [value for value in node.kw_defaults if value is not None]:
                 self.holds(is_plain(value) and not isinstance(value, (ast.List, ast.Dict)), "L4", path, value)
@@ -173,6 +182,7 @@ class LanguageTest(unittest.TestCase):
 
     def names_are_known(self, path, function, top):
         known = {part.arg for part in ast.walk(function) if isinstance(part, ast.arg)}
+        known |= {function.name for told in function.decorator_list if is_setter(told)}
         used = [part for part in ast.walk(function) if isinstance(part, ast.Name)]
         known |= {part.id for part in used if isinstance(part.ctx, ast.Store)}
         known |= {part.name for part in ast.walk(function) if isinstance(part, ast.ExceptHandler)}
@@ -186,7 +196,7 @@ class LanguageTest(unittest.TestCase):
         told = {part.id for _, node in nodes(ast.ClassDef) for row in node.body
                 if isinstance(row, ast.Assign) for part in row.targets}
         for path, node in nodes(ast.Attribute):
-            self.holds(node.attr in own | stored | told | METHODS, "L25", path, node)
+            self.holds(node.attr in own | stored | told | METHODS or is_setter(node), "L25", path, node)
             self.holds(node.attr not in BARRED_NAMES, "L17", path, node)
         for path, node in nodes(ast.FunctionDef):
             plain = not node.name.startswith("__")
@@ -195,11 +205,20 @@ class LanguageTest(unittest.TestCase):
 
     def test_methods_and_attributes_have_different_names(self):
         for path, node in nodes(ast.ClassDef):
-            methods = [part.name for part in node.body if isinstance(part, ast.FunctionDef)]
+            every = [part for part in node.body if isinstance(part, ast.FunctionDef)]
+            setters = {part.name for part in every if any(is_setter(told) for told in part.decorator_list)}
+            methods = [part.name for part in every if not any(is_setter(told) for told in part.decorator_list)]
             self.holds(len(methods) == len(set(methods)), "L18", path, node)
             stored = {part.attr for part in ast.walk(node)
                       if isinstance(part, ast.Attribute) and isinstance(part.ctx, ast.Store)}
-            self.holds(not stored & set(methods), "L18", path, node)
+            self.holds(not (stored - setters) & set(methods), "L18", path, node)
+
+    def test_imports_are_used(self):
+        for path, tree in TREES.items():
+            used = {node.id for node in ast.walk(tree) if isinstance(node, ast.Name)}
+            for node in tree.body:
+                for alias in node.names if isinstance(node, ast.ImportFrom) else ():
+                    self.holds(alias.name in used, "L2", path, node)
 
     def test_expressions(self):
         for path, node in nodes(ast.AST):
