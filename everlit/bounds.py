@@ -1,29 +1,34 @@
 """Least places of items that avoid walls, with the steps that build them up.
 
-A wall is a tuple (place, width, items): these items must not overlap these slots.
+A wall is a tuple (place, width, items): these items must not overlap these slots. A pile is the list of
+the tuples (item, width, lowers) of all items, each behind the items directly below it, its lowers.
 """
 
-from everlit.falls import lowers_in
+
+def pile_of(layout):
+    """The pile of the items of a layout."""
+    lowers = layout.order.lowers
+    # Items are above items with lesser places only.
+    items = [item for _, item in sorted([(layout[item][1], item) for item in lowers])]
+    return [(item, layout.width(item), lowers[item]) for item in items]
 
 
-def bounds_over(layout, order, starts, walls):
+def bounds_over(pile, starts, walls):
     """The dict from each item to the pair of its least place and of the steps that show it.
 
     No item goes below its start. Items with lesser places in the layout come first.
     """
-    widths = order.widths
-    lowers = lowers_in(order)
+    widths = {item: width for item, width, _ in pile}
     found = {}
-    # An item is bound by items below it only, and these have lesser places.
-    for _, item in sorted([(layout[item][1], item) for item in widths]):
+    for item, width, lowers in pile:
         bound = starts[item]
         steps = (("first", item),)
-        for lower in lowers[item]:
+        for lower in lowers:
             pushed = found[lower][0] + widths[lower]
             if pushed > bound:
                 bound = pushed
                 steps = (*found[lower][1], ("pushed", item))
-        found[item] = thrown_over(item, widths[item], walls, (bound, steps))
+        found[item] = thrown_over(item, width, walls, (bound, steps))
     return found
 
 
@@ -46,7 +51,7 @@ def throwing(item, width, walls, bound):
     return None
 
 
-def least_over(layout, order, starts, walls):
+def least_over(pile, starts, walls):
     """The dict of the least places of the items that avoid walls, where there are some."""
-    found = bounds_over(layout, order, starts, walls)
+    found = bounds_over(pile, starts, walls)
     return {item: found[item][0] for item in found}

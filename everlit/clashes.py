@@ -1,38 +1,71 @@
 """Calls of signals, which items clash, and who holds a slot. Clashes depend on the routes alone."""
 
 from everlit.errors import NoFibre, NoItem
-from everlit.kinds import is_reserve, signal_of, twin_of
-from everlit.routes import common, ducts_of
+from everlit.kinds import RESERVE, signal_of, twin_of
+from everlit.routes import ducts_along
 
 
 def calls_among(net, routes, name):
     """The ascending tuple of the calls of a signal, by a dict from the items to their routes."""
-    met = ducts_of(net, routes[name])
+    met = ducts_along(net, routes[name])
     twin = twin_of(name)
     if twin in routes:
-        also = ducts_of(net, routes[twin])
+        also = ducts_along(net, routes[twin])
         met = tuple([duct for duct in met if duct in also])
     return met
 
 
-def clash_among(net, routes, one, other):
-    """Whether two different items clash, by a dict from the items to their routes."""
-    if common(routes[one], routes[other]) == ():
+def marks_among(net, routes):
+    """The dict from items to all that tells whether they clash, by a dict from the items to their routes.
+
+    These are tuples of the marks of a route as nets tell them, and for a reserve of the calls of its
+    signal, with a bit for each duct; otherwise of None.
+    """
+    marks = {item: net.marks(routes[item]) for item in routes}
+    found = {}
+    for item in routes:
+        fibres, ducts = marks[item]
+        found[item] = (fibres, ducts, calls_marked(marks, item) if item.endswith(RESERVE) else None)
+    return found
+
+
+def calls_marked(marks, reserve):
+    """The calls of the signal of a reserve, with a bit for each duct."""
+    name = signal_of(reserve)
+    twin = twin_of(name)
+    return marks[name][1] & marks[twin][1] if twin in marks else marks[name][1]
+
+
+def marks_clash(one, other):
+    """Whether two different items clash, by what marks_among tells of them."""
+    fibres, met, calls = one
+    fibres_there, met_there, calls_there = other
+    if fibres & fibres_there == 0:
         return False
-    if not is_reserve(one) and not is_reserve(other):
+    if calls is None and calls_there is None:
         return True
-    if not is_reserve(one):
-        return misses_call(net, routes, other, one)
-    if not is_reserve(other):
-        return misses_call(net, routes, one, other)
-    calls = calls_among(net, routes, signal_of(other))
-    return any([duct in calls for duct in calls_among(net, routes, signal_of(one))])
+    if calls is None:
+        return calls_there & met != calls_there
+    if calls_there is None:
+        return calls & met_there != calls
+    return calls & calls_there != 0
 
 
-def misses_call(net, routes, reserve, lit):
-    """Whether a lit item misses a call of the signal of a reserve."""
-    met = ducts_of(net, routes[lit])
-    return any([duct not in met for duct in calls_among(net, routes, signal_of(reserve))])
+def rivals_among(net, routes, item):
+    """The list of the other items that clash with an item, by a dict from the items to their routes."""
+    marks = marks_among(net, routes)
+    return [other for other in routes if other != item and marks_clash(marks[item], marks[other])]
+
+
+def pairs_clashing(net, routes):
+    """The ascending list of the pairs of items that clash, each with the lesser item first."""
+    marks = marks_among(net, routes)
+    items = sorted(routes)
+    found = []
+    for at, one in enumerate(items):
+        mark = marks[one]
+        found.extend([(one, other) for other in items[at + 1:] if marks_clash(mark, marks[other])])
+    return found
 
 
 def routes_in(layout):
@@ -46,17 +79,16 @@ def clash(layout, one, other):
     for item in (one, other):
         if item not in layout:
             raise NoItem(item)
-    return one != other and clash_among(layout.net, routes_in(layout), one, other)
+    if one == other:
+        return False
+    marks = marks_among(layout.net, routes_in(layout))
+    return marks_clash(marks[one], marks[other])
 
 
 def clashing(layout):
     """Yields the pairs of items that clash, each with the lesser item first, in ascending order."""
-    routes = routes_in(layout)
-    items = list(routes)
-    for at, one in enumerate(items):
-        for other in items[at + 1:]:
-            if clash_among(layout.net, routes, one, other):
-                yield (one, other)
+    for pair in pairs_clashing(layout.net, routes_in(layout)):
+        yield pair
 
 
 def occupants(layout, index):

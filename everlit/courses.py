@@ -1,6 +1,6 @@
 """Moves that are done one after another on a layout."""
 
-from everlit.clashes import clash_among, routes_in
+from everlit.clashes import rivals_among, routes_in
 from everlit.errors import NotAllowed
 from everlit.layouts import share_slot
 from everlit.moves import done, is_move
@@ -54,8 +54,6 @@ class Course:
         """The list of the items that clash with an item, each with its width."""
         if item not in self._rivals:
             base = self._base
-            routes = routes_in(base)
-            others = [other for other in routes if other != item]
-            found = [other for other in others if clash_among(base.net, routes, item, other)]
+            found = rivals_among(base.net, routes_in(base), item)
             self._rivals[item] = [(other, base.width(other)) for other in found]
         return self._rivals[item]

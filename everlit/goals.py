@@ -1,6 +1,6 @@
 """Goals of plans: what is wrong about one, and which states meet it."""
 
-from everlit.clashes import clash_among, routes_in
+from everlit.clashes import rivals_among, routes_in
 from everlit.cuts import need_duct
 from everlit.errors import InvalidBand, InvalidWish
 from everlit.kinds import is_reserve, is_twin, signal_of
@@ -80,7 +80,7 @@ class Aim:
         if is_reserve(item) and meets_own_call(self._net, during, item):
             return False
         width = width_of(self._net, route, self._rates[signal_of(item)] if rate is None else rate)
-        rivals = [other for other in routes if clash_among(self._net, during, item, other)]
+        rivals = rivals_among(self._net, during, item)
         tops = [(order.low(other) + order.widths[other], order.high(other, self._band)) for other in rivals]
         for place in range(self._band - width + 1):
             if all([top <= place or high >= place + width for top, high in tops]):

@@ -11,7 +11,7 @@ def is_name(value):
     """Whether any value is a name."""
     if not isinstance(value, str) or not 1 <= len(value) <= LONGEST_NAME:
         return False
-    return all([letter in LETTERS for letter in value])
+    return value.strip(LETTERS) == ""
 
 
 def is_item(value):
@@ -41,7 +41,7 @@ def is_marked(value, mark):
 
 def signal_of(item):
     """The name of the signal of an item."""
-    return item if is_name(item) else item[:-1]
+    return item.rstrip(TWIN + RESERVE)
 
 
 def twin_of(name):

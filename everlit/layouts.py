@@ -1,12 +1,13 @@
 """Layouts: a net, a band, and signals with the routes and places of their items."""
 
-from everlit.clashes import calls_among, clash_among
+from everlit.clashes import calls_among, marks_among, marks_clash
 from everlit.errors import InvalidBand, InvalidLayout, NoItem, ParseError
 from everlit.formatting import layout_text
-from everlit.kinds import is_item, is_light, is_name, is_reserve, is_twin, reserve_of, signal_of, twin_of
+from everlit.kinds import is_item, is_light, is_name, is_twin, reserve_of, signal_of, twin_of
 from everlit.limits import MOST_SIGNALS, entries_of, is_integer, is_within
 from everlit.nets import Net, net_parts
-from everlit.routes import ends_of, factor_for, is_route, length_along, width_of
+from everlit.orders import order_among
+from everlit.routes import ducts_along, factor_for, length_along, path_of
 from everlit.textrows import LAYOUT_HEADS, NET_HEADS, text_rows
 
 
@@ -18,14 +19,7 @@ def layout_fault(net, band, rates, spots):
         return ("rates", None)
     if not isinstance(spots, dict) or not all([is_item(item) for item in spots]):
         return ("spots", None)
-    return (
-        signal_fault(rates, spots)
-        or twin_fault(spots)
-        or route_fault(net, spots)
-        or far_fault(net, spots)
-        or ends_fault(net, spots)
-        or slots_fault(net, band, rates, spots)
-    )
+    return signal_fault(rates, spots) or twin_fault(spots) or spots_fault(net, band, rates, spots)
 
 
 def are_rates(value):
@@ -49,83 +43,70 @@ def twin_fault(spots):
     return ("twin", twins[1]) if len(twins) > 1 else None
 
 
-def route_fault(net, spots):
-    """The fault of the least item whose value is no tuple of a route and an integer."""
-    for item in sorted(spots):
-        spot = spots[item]
-        if not isinstance(spot, tuple) or len(spot) != 2:
+def spots_fault(net, band, rates, spots):
+    """The first fault of the spots of items whose signals and twins are right, or None."""
+    items = sorted(spots)
+    paths = {item: path_at(net, spots[item]) for item in items}
+    for item in items:
+        if paths[item] == ():
             return ("route", item)
-        if not is_route(net, spot[0]) or not is_integer(spot[1]):
-            return ("route", item)
-    return None
-
-
-def far_fault(net, spots):
-    """The fault of the least item whose route is too far."""
-    for item in sorted(spots):
-        if factor_for(net, length_along(net, spots[item][0])) is None:
+    routes = {item: spots[item][0] for item in items}
+    factors = {item: factor_for(net, length_along(net, routes[item])) for item in items}
+    for item in items:
+        if factors[item] is None:
             return ("far", item)
-    return None
-
-
-def ends_fault(net, spots):
-    """The fault of the least item whose route has other ends than the light of its signal."""
-    ends = {item: ends_of(net, spots[item][0]) for item in spots}
-    for item in sorted(spots):
-        if ends[item] != ends[signal_of(item)]:
+    for item in items:
+        path = paths[signal_of(item)]
+        if paths[item][0] != path[0] or paths[item][-1] != path[-1]:
             return ("ends", item)
-    return None
+    slots = {}
+    for item in items:
+        place = spots[item][1]
+        slots[item] = (place, place + rates[signal_of(item)] * factors[item])
+    return place_fault(band, slots) or overlap_fault(marks_among(net, routes), slots)
 
 
-def slots_fault(net, band, rates, spots):
-    """The first fault of the slots that items on right routes hold, or None."""
-    routes = {item: spots[item][0] for item in spots}
-    slots = {item: slots_of(net, rates, item, spots[item]) for item in spots}
-    return place_fault(band, slots) or calls_fault(net, routes) or overlap_fault(net, routes, slots)
-
-
-def slots_of(net, rates, item, spot):
-    """The pair of the first slot that an item holds and of the first one behind it."""
-    route, place = spot
-    factor = factor_for(net, length_along(net, route))
-    return (place, place + rates[signal_of(item)] * factor)
+def path_at(net, spot):
+    """The path of any value that is a tuple of a route and an integer; () if it is none."""
+    if not isinstance(spot, tuple) or len(spot) != 2 or not is_integer(spot[1]):
+        return ()
+    return path_of(net, spot[0])
 
 
 def place_fault(band, slots):
     """The fault of the least item that holds slots outside of the band."""
-    for item in sorted(slots):
+    for item in slots:
         first, behind = slots[item]
         if first < 0 or behind > band:
             return ("place", item)
     return None
 
 
-def calls_fault(net, routes):
-    """The fault of the least reserve that meets a call of its signal."""
-    for item in sorted(routes):
-        if is_reserve(item) and meets_own_call(net, routes, item):
+def overlap_fault(marks, slots):
+    """The fault of the least reserve that meets its calls, or of the least item that overlaps one it clashes with.
+
+    Slots tell the ascending items, marks what marks_among tells of them.
+    """
+    for item in slots:
+        _, ducts, calls = marks[item]
+        if calls is not None and ducts & calls != 0:
             return ("calls", item)
-    return None
-
-
-def meets_own_call(net, routes, reserve):
-    """Whether a reserve meets one of the calls of its signal."""
-    calls = calls_among(net, routes, signal_of(reserve))
-    return any([net.duct_of(index) in calls for index in routes[reserve]])
-
-
-def overlap_fault(net, routes, slots):
-    """The fault of the least item that overlaps one that it clashes with."""
-    items = sorted(routes)
+    items = list(slots)
     for at, one in enumerate(items):
         for other in items[at + 1:]:
-            if share_slot(slots[one], slots[other]) and clash_among(net, routes, one, other):
+            if share_slot(slots[one], slots[other]) and marks_clash(marks[one], marks[other]):
                 return ("overlap", one)
     return None
 
 
+def meets_own_call(net, routes, reserve):
+    """Whether a reserve meets one of the calls of its signal, by a dict from the items to their routes."""
+    calls = calls_among(net, routes, signal_of(reserve))
+    return any([duct in calls for duct in ducts_along(net, routes[reserve])])
+
+
 def share_slot(one, other):
-    """Whether two pairs of slots, each as slots_of tells them, have a slot in common."""
+    """Whether two pairs of a first slot and of the first one behind have a slot in common."""
     return one[0] < other[1] and other[0] < one[1]
 
 
@@ -162,6 +143,12 @@ class Layout:
         self._band = band
         self._rates = {name: rates[name] for name in sorted(rates)}
         self._spots = {item: spots[item] for item in sorted(spots)}
+        self._widths = {item: self._width_on(item, self._spots[item][0]) for item in self._spots}
+        self._order = None
+
+    def _width_on(self, item, route):
+        """The width of an item on a route that is not too far."""
+        return self._rates[signal_of(item)] * factor_for(self._net, length_along(self._net, route))
 
     @classmethod
     def read(cls, text):
@@ -207,10 +194,18 @@ class Layout:
                 return signal_of(item)
         return None
 
+    @property
+    def order(self):
+        """The order of the layout."""
+        if self._order is None:
+            self._order = order_among(self._net, self._widths, self._spots)
+        return self._order
+
     def width(self, item):
         """The width of an item."""
-        route, _ = self[item]
-        return width_of(self._net, route, self._rates[signal_of(item)])
+        if item not in self:
+            raise NoItem(item)
+        return self._widths[item]
 
     def calls(self, name):
         """The ascending tuple of the calls of a signal."""
@@ -255,7 +250,7 @@ class Layout:
 
     def mirrored(self):
         """The layout in which each place is counted from the other end of the band."""
-        return self.placed({item: self._band - self[item][1] - self.width(item) for item in self._spots})
+        return self.placed({item: self._band - self._spots[item][1] - self._widths[item] for item in self._spots})
 
     def is_under(self, other):
         """Whether the other layout is alike and has no item at a lesser place."""
@@ -275,7 +270,7 @@ class Layout:
         raise TypeError("a layout is not iterated over")
 
     def __contains__(self, item):
-        return is_item(item) and item in self._spots
+        return isinstance(item, str) and item in self._spots
 
     def __eq__(self, other):
         if not isinstance(other, Layout):

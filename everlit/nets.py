@@ -78,6 +78,7 @@ class Net:
         ends = [fibre[0] for fibre in values] + [fibre[1] for fibre in values]
         self._stations = tuple(sorted(set(ends)))
         self._ducts = tuple(sorted({fibre[3] for fibre in values}))
+        self._bits = tuple([1 << self._ducts.index(fibre[3]) for fibre in values])
 
     @classmethod
     def read(cls, text):
@@ -114,6 +115,15 @@ class Net:
         if duct not in self._ducts:
             raise NoDuct(duct)
         return tuple([index for index, fibre in enumerate(self._fibres) if fibre[3] == duct])
+
+    def marks(self, route):
+        """The fibres of a route and the ducts that it meets, each as an integer with a bit for each of them."""
+        fibres = 0
+        ducts = 0
+        for index in route:
+            fibres = fibres | 1 << index
+            ducts = ducts | self._bits[index]
+        return (fibres, ducts)
 
     def __len__(self):
         return len(self._fibres)

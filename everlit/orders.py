@@ -1,6 +1,6 @@
 """Orders: items with widths and pairs (lower, upper) of them; the order of a layout."""
 
-from everlit.clashes import clashing
+from everlit.clashes import pairs_clashing
 from everlit.errors import Circular, NoItem, Unlike
 from everlit.limits import entries_of, is_integer
 from everlit.links import heaviest_along, links_of, ranked, reached, ring_beside, weights_along
@@ -74,6 +74,16 @@ class Order:
         self._need_no_ring()
         return band - self._up[item]
 
+    @property
+    def lowers(self):
+        """A new dict from each item to the tuple of those that are a pair with it, lower ones."""
+        return {item: tuple(self._lowers[item]) for item in self._lowers}
+
+    @property
+    def uppers(self):
+        """A new dict from each item to the tuple of those that are a pair with it, upper ones."""
+        return {item: tuple(self._uppers[item]) for item in self._uppers}
+
     def below(self, item):
         """The ascending tuple of the items below an item."""
         self._need_item(item)
@@ -146,11 +156,14 @@ class Order:
         return f"Order({len(self._widths)} items, {len(self._pairs)} pairs)"
 
 
-def order_of(layout):
-    """The order of a layout: of two items that clash the one with the lesser place is lower."""
-    spots = layout.spots
-    widths = {item: layout.width(item) for item in spots}
+def order_among(net, widths, spots):
+    """The order of items with these widths and spots: of two that clash the one with the lesser place is lower."""
     pairs = []
-    for one, other in clashing(layout):
+    for one, other in pairs_clashing(net, {item: spots[item][0] for item in spots}):
         pairs.append((one, other) if spots[one][1] < spots[other][1] else (other, one))
     return Order(widths, pairs)
+
+
+def order_of(layout):
+    """The order of a layout."""
+    return layout.order

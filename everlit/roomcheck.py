@@ -1,7 +1,7 @@
 """Checks of what bars room, room after ticks and lesser bands. The certificates may be any values."""
 
 from everlit.chaincheck import are_linked, chain_weight
-from everlit.falls import chain_bound, leads_down
+from everlit.falls import chain_bound, from_top, leads_down, leads_up
 from everlit.limits import is_integer
 from everlit.orders import order_of
 from everlit.rooms import wishes_in
@@ -83,25 +83,25 @@ def shows_not_sooner(layout, wish, ticks, value):
     width, others, _ = walls_for(layout, [wish])[0]
     if not isinstance(value, tuple) or len(value) != max(0, layout.band - width + 1):
         return False
-    mirrored = layout.mirrored()
-    order = order_of(layout)
-    upwards = order_of(mirrored)
     for place, row in enumerate(value):
         if not isinstance(row, tuple) or len(row) != 3 or row[0] not in others:
             return False
         item, down, up = row
-        if not is_width_chain(order, item, ticks, down) or not is_width_chain(upwards, item, ticks, up):
+        if not leads_down(layout.order, down) or not leads_up(layout.order, up):
             return False
-        if chain_bound(layout, down, ticks) + layout.width(item) <= place:
+        if not is_chain_of(item, ticks, down) or not is_chain_of(item, ticks, up):
             return False
-        if layout.band - layout.width(item) - chain_bound(mirrored, up, ticks) >= place + width:
+        if chain_bound(layout, down, ticks, layout[down[-1]][1]) + layout.width(item) <= place:
+            return False
+        last = from_top(layout, up[-1], layout[up[-1]][1])
+        if from_top(layout, item, chain_bound(layout, up, ticks, last)) >= place + width:
             return False
     return True
 
 
-def is_width_chain(order, item, ticks, value):
-    """Whether any value is a width chain downwards of an item for so many ticks."""
-    return leads_down(order, value) and value[0] == item and len(value) - 1 <= ticks
+def is_chain_of(item, ticks, items):
+    """Whether a tuple of items begins with this one and is short enough for so many ticks."""
+    return items[0] == item and len(items) - 1 <= ticks
 
 
 def shows_heavy(layout, band, value):

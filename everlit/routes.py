@@ -13,13 +13,11 @@ def far_end(fibre, station):
     return None
 
 
-def path_from(net, start, value):
-    """The stations that a tuple of any values leads along from the start; () if it is no path."""
+def path_from(fibres, start, route):
+    """The stations that a tuple of numbers of fibres leads along from the start; () if it is no path."""
     path = [start]
-    for index in value:
-        if index not in net:
-            return ()
-        station = far_end(net[index], path[-1])
+    for index in route:
+        station = far_end(fibres[index], path[-1])
         if station is None or station in path:
             return ()
         path.append(station)
@@ -28,11 +26,12 @@ def path_from(net, start, value):
 
 def path_of(net, value):
     """The tuple of the stations on the path of any value; () if it is no route of the net."""
-    if not isinstance(value, tuple) or value == () or value[0] not in net:
+    if not isinstance(value, tuple) or value == () or not all([index in net for index in value]):
         return ()
+    fibres = net.fibres
     # Only one of both ends of the first fibre can begin a path of several fibres.
-    for start in net[value[0]][:2]:
-        path = path_from(net, start, value)
+    for start in fibres[value[0]][:2]:
+        path = path_from(fibres, start, value)
         if path != () and path[0] < path[-1]:
             return path
     return ()
@@ -71,20 +70,28 @@ def length_of(net, route):
 
 def length_along(net, route):
     """The sum of the lengths of the fibres."""
-    return sum([net[index][2] for index in route])
+    fibres = net.fibres
+    return sum([fibres[index][2] for index in route])
 
 
 def ducts_of(net, route):
     """The ascending tuple of the ducts that a route meets."""
     need_route(net, route)
-    return tuple(sorted({net[index][3] for index in route}))
+    return ducts_along(net, route)
+
+
+def ducts_along(net, route):
+    """The ascending tuple of the ducts in which the fibres lie."""
+    fibres = net.fibres
+    return tuple(sorted({fibres[index][3] for index in route}))
 
 
 def factor_for(net, length):
     """The factor of routes of this length; None if they are too far."""
-    if net.reach == ():
+    reach = net.reach
+    if reach == ():
         return 1
-    for most, factor in net.reach:
+    for most, factor in reach:
         if length <= most:
             return factor
     return None

@@ -1,6 +1,6 @@
 """Webs: the states that slides do not change, and the steps between them."""
 
-from everlit.clashes import clash_among
+from everlit.clashes import marks_among, marks_clash, pairs_clashing, rivals_among
 from everlit.errors import InvalidLayout, InvalidRoute, NoItem, TooMany, Unlike
 from everlit.kinds import is_light, is_reserve, is_twin, reserve_of, signal_of, twin_of
 from everlit.layouts import Layout, meets_own_call
@@ -78,15 +78,6 @@ def are_pairs(value):
 def state_from(routes, pairs):
     """The state with these routes of its items and these pairs."""
     return (tuple(sorted([(item, routes[item]) for item in routes])), tuple(sorted(pairs)))
-
-
-def clashes_of(net, routes):
-    """The list of the pairs of items that clash, each with the lesser item first."""
-    items = sorted(routes)
-    found = []
-    for at, one in enumerate(items):
-        found.extend([(one, other) for other in items[at + 1:] if clash_among(net, routes, one, other)])
-    return found
 
 
 class Web:
@@ -168,14 +159,15 @@ class Web:
         # Light and twin are lit together for a while, and both places of a reserve are kept so long.
         new = item if word == "move" else twin_of(item)
         during = {**routes, new: route}
-        rivals = [other for other in routes if other != new and clash_among(self._net, during, new, other)]
+        rivals = [other for other in rivals_among(self._net, during, new) if other in routes]
         last = new if word == "light" else item
         behind = {**routes, last: route}
         if word == "move" and meets_own_call(self._net, behind, item):
             return []
         kept = pairs_without(order.pairs, last)
         if word == "light":
-            kept = [pair for pair in kept if clash_among(self._net, behind, pair[0], pair[1])]
+            marks = marks_among(self._net, behind)
+            kept = [(lower, upper) for lower, upper in kept if marks_clash(marks[lower], marks[upper])]
         found = []
         for below in ways_in(order, self._band, self._width(item, route), rivals):
             around = pairs_around(last, [other for other in rivals if other != last], below)
@@ -195,8 +187,7 @@ class Web:
             return []
         # The calls of the signal have grown, so its reserve may clash with more items.
         ahead = [other for other in behind if (other, reserve) in order or (reserve, other) in order]
-        fresh = [other for other in behind if other != reserve and other not in ahead]
-        rivals = [other for other in fresh if clash_among(self._net, behind, reserve, other)]
+        rivals = [other for other in rivals_among(self._net, behind, reserve) if other not in ahead]
         width = self._width(reserve, routes[reserve])
         found = []
         for below in parts_of(rivals):
@@ -231,6 +222,6 @@ class Web:
         reserves = [item for item in routes if is_reserve(item)]
         if any([meets_own_call(self._net, routes, item) for item in reserves]):
             return False
-        if sorted([(min(pair), max(pair)) for pair in pairs]) != clashes_of(self._net, routes):
+        if sorted([(min(pair), max(pair)) for pair in pairs]) != pairs_clashing(self._net, routes):
             return False
         return self.order_at(state).fits(self._band)

@@ -2,7 +2,7 @@
 
 from everlit.clashes import clash
 from everlit.errors import NotAllowed
-from everlit.falls import falling, rising, row_after, width_chain
+from everlit.falls import falls_down, falls_up, from_top, places_from_top
 from everlit.kinds import is_item
 from everlit.limits import entries_of, is_integer
 from everlit.turned import need_unturned
@@ -62,68 +62,62 @@ def holds(layout, item, slot):
 
 def envelope(layout, ticks):
     """The dicts of the lowest and of the highest places after so many ticks."""
-    return (row_after(falling(layout), ticks), row_after(rising(layout), ticks))
+    top = falls_up(layout).after(ticks)
+    return (falls_down(layout).after(ticks), {item: from_top(layout, item, top[item]) for item in top})
 
 
 def fewest_ticks(first, goal):
     """The least number of ticks that lead from one layout to the other one."""
+    _, _, many = ways_between(first, goal)
+    return many
+
+
+def ways_between(first, goal):
+    """The falls of a layout both ways, and the least number of ticks that lead to the other one."""
     need_unturned(first, goal)
-    return fewest_within(goal, falling(first), rising(first))
+    down = falls_down(first)
+    up = falls_up(first)
+    return down, up, max(down.ticks_to(places_in(goal)), up.ticks_to(places_from_top(goal)))
 
 
-def fewest_within(goal, lowest, highest):
-    """The least number of ticks after which the goal lies between the lowest and highest places."""
-    ticks = 0
-    while not lies_within(goal, row_after(lowest, ticks), row_after(highest, ticks)):
-        ticks += 1
-    return ticks
-
-
-def lies_within(goal, low, high):
-    """Whether the place of each item lies between two dicts of places."""
-    return all([low[item] <= goal[item][1] <= high[item] for item in low])
+def places_in(layout):
+    """The dict from the items of a layout to their places."""
+    spots = layout.spots
+    return {item: spots[item][1] for item in spots}
 
 
 def schedule(first, goal):
     """The list of the fewest ticks, in which each item goes as soon as it can."""
-    need_unturned(first, goal)
-    lowest = falling(first)
-    highest = rising(first)
-    many = fewest_within(goal, lowest, highest)
-    rows = []
-    for ticks in range(many + 1):
-        rows.append(places_on_way(first, goal, row_after(lowest, ticks), row_after(highest, ticks)))
-    return [tick_between(rows[at], rows[at + 1]) for at in range(many)]
+    down, up, many = ways_between(first, goal)
+    falls = steps_along(down, places_in(goal), many, -1)
+    rises = steps_along(up, places_from_top(goal), many, 1)
+    return [tuple(sorted(one + other)) for one, other in zip(falls, rises)]
 
 
-def places_on_way(first, goal, low, high):
-    """The dict of the places nearest to the goal that lie between the lowest and highest ones."""
-    found = {}
-    for item in low:
-        aim = goal[item][1]
-        found[item] = max(aim, low[item]) if aim <= first[item][1] else min(aim, high[item])
+def steps_along(falls, aims, many, step):
+    """The list of the lists of the steps of those items that fall to their aims, for so many ticks."""
+    found = []
+    before = falls.after(0)
+    for ticks in range(1, many + 1):
+        after = falls.after(ticks)
+        found.append([(item, step) for item in aims if before[item] > aims[item] and after[item] < before[item]])
+        before = after
     return found
-
-
-def tick_between(before, after):
-    """The tick that leads from some places to those one tick later."""
-    return tuple([(item, after[item] - before[item]) for item in sorted(before) if after[item] != before[item]])
 
 
 def wait_chain(first, goal):
     """A certificate for the fewest ticks, or None if no tick is needed."""
-    many = fewest_ticks(first, goal)
+    down, up, many = ways_between(first, goal)
     if many == 0:
         return None
-    down = late_chain(first, goal, many - 1)
-    if down is not None:
-        return ("down", down)
-    return ("up", late_chain(first.mirrored(), goal.mirrored(), many - 1))
+    chain = late_chain(down, places_in(goal), many - 1)
+    if chain is not None:
+        return ("down", chain)
+    return ("up", late_chain(up, places_from_top(goal), many - 1))
 
 
-def late_chain(first, goal, ticks):
-    """A width chain downwards that bars the place of its first item in goal, or None."""
-    rows = falling(first)
-    low = row_after(rows, ticks)
-    late = [item for item in low if low[item] > goal[item][1]]
-    return width_chain(first, rows, late[0], ticks) if late else None
+def late_chain(falls, aims, ticks):
+    """A width chain that bars the aim of its first item, or None."""
+    low = falls.after(ticks)
+    late = [item for item in low if low[item] > aims[item]]
+    return falls.width_chain(late[0], ticks) if late else None

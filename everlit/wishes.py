@@ -1,6 +1,6 @@
 """Wishes: what is wrong about any value as a wish, and what right ones meet on a layout."""
 
-from everlit.clashes import clash_among, routes_in
+from everlit.clashes import rivals_among, routes_in
 from everlit.errors import InvalidWish
 from everlit.kinds import is_item, is_light, is_reserve, is_twin, reserve_of, signal_of, twin_of
 from everlit.layouts import Layout, meets_own_call
@@ -83,7 +83,7 @@ def walls_for(layout, wishes):
     wanted = [wish[0] for wish in wishes]
     found = []
     for item in wanted:
-        rivals = [other for other in routes if other != item and clash_among(layout.net, routes, item, other)]
+        rivals = rivals_among(layout.net, routes, item)
         width = width_of(layout.net, routes[item], rates[signal_of(item)])
         others = tuple([other for other in rivals if other not in wanted])
         indexes = tuple([at for at, other in enumerate(wanted) if other in rivals])
