@@ -36,19 +36,18 @@ def shows_fewest(first, goal, value, *, routes=None, still=()):
         for state in row:
             ranks.setdefault(state, rank)
     for state in ranks:
-        if aim.is_met(state) or not leads_on_slowly(web, state, ranks, len(value) - 1):
+        if aim.is_met(state) or not leads_on_slowly(web, state, ranks, len(value)):
             return False
     return True
 
 
-def leads_on_slowly(web, state, ranks, last):
-    """Whether each step from a state leads to a rank that is low enough."""
-    rank = ranks[state]
+def leads_on_slowly(web, state, ranks, beyond):
+    """Whether each step from a state leads to a rank that is low enough.
+
+    States in no tuple have the rank beyond, to which hops from the last tuple may lead.
+    """
     for step in web.steps(state):
-        # From the last tuple hops may lead anywhere.
-        if step[0] in HOPS and rank == last:
-            continue
-        most = rank + 1 if step[0] in HOPS else rank
-        if ranks.get(step[3], last + 1) > most:
+        most = ranks[state] + 1 if step[0] in HOPS else ranks[state]
+        if ranks.get(step[3], beyond) > most:
             return False
     return True

@@ -75,6 +75,9 @@ class LeastCountsTest(unittest.TestCase):
         goal = piled("xyzhabc", net=net, routes=names)
         counts = {"a": 0, "b": 0, "c": 0, "h": 2, "x": 0, "y": 0, "z": 0}
         self.assertEqual(least_counts(first, goal), (2, counts))
+        first, goal = first.without("c"), goal.without("c")
+        counts.pop("c")
+        self.assertEqual(least_counts(first, goal), (2, counts))
 
     def test_sums_up_to_six_and_more(self):
         for many in range(7):

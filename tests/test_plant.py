@@ -94,6 +94,8 @@ class ReadingTest(PlantCase):
             self.assertFalse(one == two)
             two.undo(2)
             self.assertTrue(one == two)
+            # The same log of another layout.
+            self.assertFalse(one == made(small(band=9)))
             # The calls that can be taken back do not count.
             two.do()
             self.assertTrue(one == two)
@@ -500,6 +502,8 @@ class GuardedPlantTest(PlantCase):
         self.refused(NotAllowed, plant.do, index=0, word="form")(("drop", "b*"))
         self.refused(NotAllowed, plant.do, index=0, word="form")(("drop", "b", 1))
         self.refused(NotAllowed, plant.do, index=1, word="form")(("slide", "b", 1), [["drop", "b"]])
+        for value in STRANGE:
+            self.refused(NotAllowed, plant.do, index=0, word="form")([value])
 
     def test_guarded_later(self):
         plant = GuardedPlant(small())

@@ -67,6 +67,15 @@ def some_goal(rng, first):
     return ("room", ("new", first["a"][0] if "a" in first else (0,), rng.randint(1, 3)))
 
 
+def tried_webs(seed):
+    """Layouts with their told routes and still signals, all layouts of their webs, and their first states."""
+    for first, routes, still in some_webs(seed, 30):
+        found = Tried(first, routes, still)
+        if len(found.layouts) <= 40:
+            start = Web.of(first, routes=routes, still=still).state_of(first)
+            yield first, {"routes": routes, "still": still}, found, start
+
+
 class NeverTest(unittest.TestCase):
     def test_what_fewest_hops_returns(self):
         first = stack(1, 1, 1, band=4)
@@ -139,13 +148,8 @@ class NeverTest(unittest.TestCase):
     def test_against_all_moves(self):
         rng = generator(220)
         count = {True: 0, False: 0}
-        for first, routes, still in some_webs(221, 30):
-            found = Tried(first, routes, still)
-            web = Web.of(first, routes=routes, still=still)
-            start = web.state_of(first)
+        for first, told, found, start in tried_webs(221):
             every = sorted(found.layouts)
-            if len(every) > 40:
-                continue
             goal = some_goal(rng, first)
             closed = [start]
             for state in closed:
@@ -154,9 +158,9 @@ class NeverTest(unittest.TestCase):
             tries += [tuple(state for state in closed if rng.random() < 0.9) for _ in range(4)]
             tries += [tuple(rng.sample(every, min(len(every), rng.randint(1, 8)))) for _ in range(4)]
             for value in tries:
-                told = tried_never(found, start, goal, value)
-                self.assertIs(shows_never(first, goal, value, routes=routes, still=still), told)
-                count[told] += 1
+                right = tried_never(found, start, goal, value)
+                self.assertIs(shows_never(first, goal, value, **told), right)
+                count[right] += 1
         self.assertGreater(min(count.values()), 20)
 
 
@@ -228,23 +232,18 @@ class FewestTest(unittest.TestCase):
     def test_against_all_moves(self):
         rng = generator(222)
         count = {True: 0, False: 0}
-        for first, routes, still in some_webs(223, 30):
-            found = Tried(first, routes, still)
-            web = Web.of(first, routes=routes, still=still)
-            start = web.state_of(first)
+        for first, told, found, start in tried_webs(223):
             every = sorted(found.layouts)
-            if len(every) > 40:
-                continue
             goal = some_goal(rng, first)
-            rows = list(layers(first, goal, routes=routes, still=still, limit=500))
+            rows = list(layers(first, goal, limit=500, **told))
             tries = [tuple(rows), (tuple(every),), ((start,), tuple(every)), ((start,),)]
             for _ in range(6):
                 tries.append(tuple(self.shaken(rng, row, every) for row in rows))
                 tries.append(tuple(self.shaken(rng, row, every) for row in rows) + (tuple(every),))
             for value in tries:
-                told = tried_fewest(found, start, goal, value)
-                self.assertIs(shows_fewest(first, goal, value, routes=routes, still=still), told)
-                count[told] += 1
+                right = tried_fewest(found, start, goal, value)
+                self.assertIs(shows_fewest(first, goal, value, **told), right)
+                count[right] += 1
         self.assertGreater(min(count.values()), 40)
 
     def shaken(self, rng, row, every):

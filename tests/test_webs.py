@@ -245,6 +245,48 @@ class FewestHopsTest(unittest.TestCase, PlanMixin):
         self.assertEqual(fewest_hops(wider, ("room", ("new", (0, 1), 4)), routes={"a": ((2,),)})[0], "never")
         self.assertEqual(fewest_hops(wider, ("room", ("new", (0,), 16)))[0], "never")
 
+    def test_room_that_is_just_wide_enough(self):
+        # The signal b lies above a on fibre 0 and below c on fibre 1, so neither of them leaves more than two slots.
+        net = Net(("a", "b", 1, "p"), ("b", "c", 1, "q"))
+        first = Layout(net, 5, {"a": 2, "b": 1, "c": 2}, {"a": ((0,), 0), "b": ((0, 1), 2), "c": ((1,), 3)})
+        for route in ((0,), (1,)):
+            self.assertEqual(fewest_hops(first, ("room", ("new", route, 2))), ("plan", 0, ()))
+            self.assertEqual(fewest_hops(first, ("room", ("new", route, 3)), still=("a", "b", "c"))[0], "never")
+
+    def test_a_doubled_state_meets_no_goal(self):
+        # With a twin in another duct no cut strikes a, and its reserve is in nobody's way; but not for good.
+        first = Layout(line(), 2, {"a": 1}, {"a": ((0,), 0), "a*": ((1,), 0)})
+        goal = ("room", ("new", (1,), 2))
+        routes = {"a": ((2,),)}
+        answer = fewest_hops(first, goal, routes=routes)
+        self.assertEqual(answer[0], "never")
+        self.assertIs(shows_never(first, goal, answer[1], routes=routes), True)
+        self.assertTrue(any("a+" in dict(state[0]) for state in answer[1]))
+        self.assertEqual(sure_hops(first, goal, routes=routes), ())
+
+    def test_a_hop_that_is_quit(self):
+        # While a is doubled its reserve clashes with nothing, and slides past b.
+        first = Layout(line(), 2, {"a": 1, "b": 1}, {"a": ((0,), 0), "a*": ((1,), 0), "b": ((1,), 1)})
+        goal = Layout(line(), 2, {"a": 1, "b": 1}, {"a": ((0,), 0), "a*": ((1,), 1), "b": ((1,), 0)})
+        self.assertEqual(fewest_hops(first, goal, still=("b",))[0], "never")
+        answer = fewest_hops(first, goal, routes={"a": ((2,),)}, still=("b",))
+        self.assertEqual(answer[1], 1)
+        self.assertEqual({word: many for word, many in tally(answer[2]).items() if word != "slide"},
+                         {"light": 1, "quit": 1})
+        self.plays(first, goal, answer, told_routes(first, {"a": ((2,),)}))
+        self.assertEqual(sure_hops(first, goal, routes={"a": ((2,),)}, still=("b",)), ("a",))
+
+    def test_a_hop_to_a_route_that_shares_a_fibre(self):
+        net = Net(("a", "b", 1, "p"), ("b", "c", 1, "q"), ("b", "c", 1, "r"))
+        for band in (1, 2, 3):
+            first = Layout(net, band, {"a": 1}, {"a": ((0, 1), 0)})
+            for goal in (first.with_item("a", (0, 2), 0), first.with_item("a", (0, 2), band - 1)):
+                answer = fewest_hops(first, goal)
+                self.assertEqual(answer[0], "never" if band == 1 else "plan")
+                if band > 1:
+                    self.assertEqual(answer[1], 1)
+                    self.plays(first, goal, answer, told_routes(first, {"a": ((0, 2),)}))
+
     def test_room_for_a_reserve_whose_calls_bar_it_in_some_state(self):
         first = stack(1, band=2)
         wish = ("a*", (0,), None)
